@@ -1,0 +1,1 @@
+"""Gapgrades: worn things graded by a row of holes."""

@@ -1,0 +1,70 @@
+"""What several tests need: odd things, a check of refusals, and small rows and scales by chance."""
+
+import itertools
+import random
+
+from gapgrades.rows import Row
+
+
+def deep(kind, depth):
+    """So many tuples, lists or dicts within one another."""
+    thing = kind()
+    for _ in range(depth - 1):
+        thing = {"a": thing} if kind is dict else kind([thing])
+    return thing
+
+
+def anything():
+    """Things of each kind that may be handed in where the document says 'of anything'."""
+    return [
+        None, True, False, 0, 1, -1, 10 ** 80 - 1, 1 - 10 ** 80, "", "a", "A", "abcdefghi", "size", "3x4",
+        (), ((),), (None,), ("",), (True,), ("a", (1,), ("all",), 1), ("sum",), ("low", "low"), ("all", None),
+        ("size",), ("worth",), ("add",), ("add", ("low",)), ("size", None, None), ("worth", (), []),
+        [], [[]], [None], [1], ["a"], [("a",)], {}, {"a": 1}, {1: []}, {"place": {}}, {(1, 2): None},
+        deep(tuple, 30), deep(list, 30), deep(dict, 30),
+    ]
+
+
+def refusal(test, error, fields, call, *args, **more):
+    """Check that a call is refused by just this class, with just these fields."""
+    with test.assertRaises(error) as caught:
+        call(*args, **more)
+    test.assertIs(type(caught.exception), error)
+    test.assertEqual(vars(caught.exception), fields)
+    for name, value in fields.items():
+        test.assertIs(type(getattr(caught.exception, name)), type(value))
+
+
+def is_plain(thing):
+    """Whether it is all through of Python's own plain kinds."""
+    if type(thing) in (tuple, list):
+        return all(is_plain(part) for part in thing)
+    if type(thing) is dict:
+        return all(is_plain(key) and is_plain(part) for key, part in thing.items())
+    return thing is None or type(thing) in (int, str, bool)
+
+
+def box(least, greatest):
+    """Every thing from the least to the greatest one."""
+    return itertools.product(*[range(low, high + 1) for low, high in zip(least, greatest)])
+
+
+def some_thing(chance, many, most):
+    """A thing, or a hole, of small measures."""
+    return tuple(chance.randint(0, most) for _ in range(many))
+
+
+def some_scale(chance, many, within=3):
+    """A scale."""
+    word = chance.choice(["sum", "times", "low", "high", "add", "lesser", "greater"][: 7 if within > 1 else 4])
+    if word == "sum":
+        return word, tuple(chance.randint(0, 3) for _ in range(many))
+    if word in ("times", "low", "high"):
+        return (word,)
+    return word, some_scale(chance, many, within - 1), some_scale(chance, many, within - 1)
+
+
+def some_row(seed, many, holes, names="abc", most=5):
+    """A row of so many holes and measures, the same for the same seed."""
+    chance = random.Random(seed)
+    return Row([(some_thing(chance, many, most), chance.choice(names)) for _ in range(holes)])
