@@ -1,9 +1,12 @@
-"""What several tests need: odd things, a check of refusals, and small rows and scales by chance."""
+"""What several tests need: odd things, a check of refusals, and small lots and rows by chance."""
 
 import itertools
 import random
 
+from gapgrades.lots import Lot
 from gapgrades.rows import Row
+from gapgrades.rules import keeps
+from gapgrades.things import fits
 
 
 def deep(kind, depth):
@@ -49,6 +52,20 @@ def box(least, greatest):
     return itertools.product(*[range(low, high + 1) for low, high in zip(least, greatest)])
 
 
+def things_of(sort):
+    """Every thing of a small sort."""
+    return [thing for thing in box((0,) * len(sort[1]), sort[1]) if keeps(sort[2], thing)]
+
+
+def greatest_among(test, things):
+    """The one of these things that all others fit, or None without things."""
+    if not things:
+        return None
+    tops = [top for top in things if all(fits(thing, top) for thing in things)]
+    test.assertEqual(len(tops), 1)
+    return tops[0]
+
+
 def some_thing(chance, many, most):
     """A thing, or a hole, of small measures."""
     return tuple(chance.randint(0, most) for _ in range(many))
@@ -62,6 +79,31 @@ def some_scale(chance, many, within=3):
     if word in ("times", "low", "high"):
         return (word,)
     return word, some_scale(chance, many, within - 1), some_scale(chance, many, within - 1)
+
+
+def some_rule(chance, many, most, within=3):
+    """A rule."""
+    word = chance.choice(["size", "worth", "all", "any"][: 4 if within > 1 else 2])
+    if word == "size":
+        return word, chance.randrange(many), chance.randint(0, most)
+    if word == "worth":
+        return word, some_scale(chance, many), chance.randint(0, 2 * most)
+    parts = [some_rule(chance, many, most, within - 1) for _ in range(chance.randint(0, 3))]
+    return (word, *parts)
+
+
+def some_sort(chance, name, many, most):
+    """A sort of small measures that has its greatest thing."""
+    while True:
+        greatest, rule = some_thing(chance, many, most), some_rule(chance, many, most)
+        if keeps(rule, greatest):
+            return name, greatest, rule
+
+
+def some_lot(seed, many, sorts, most=4):
+    """A lot of so many sorts and measures, the same for the same seed."""
+    chance = random.Random(seed)
+    return Lot([some_sort(chance, "abcdefghijkl"[place], many, most) for place in range(sorts)])
 
 
 def some_row(seed, many, holes, names="abc", most=5):

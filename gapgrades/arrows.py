@@ -1,0 +1,28 @@
+"""Arrows: which sorts have things that fit another one's greatest."""
+
+from gapgrades.rules import keeps
+from gapgrades.things import meet
+
+
+def arrow_between(one, other):
+    """The greatest thing of the first sort that fits the other's greatest, or None."""
+    thing = meet(one[1], other[1])
+    return thing if keeps(one[2], thing) else None
+
+
+def arrow(lot, one, other):
+    """The arrow from the sort of the first name to that of the other: a thing, or None."""
+    first = lot.sort_of(one)
+    second = lot.sort_of(other)
+    return arrow_between(first, second)
+
+
+def shared(lot):
+    """The first two sorts that have a thing of both, and the greatest such thing, or None."""
+    sorts = lot.sorts()
+    for place, first in enumerate(sorts):
+        for second in sorts[place + 1:]:
+            thing = arrow_between(first, second)
+            if thing is not None and keeps(second[2], thing):
+                return first[0], second[0], thing
+    return None

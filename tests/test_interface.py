@@ -1,0 +1,58 @@
+"""The names, the arguments and the methods of the interface, and the README's examples."""
+
+import importlib
+import inspect
+import pathlib
+import unittest
+
+FUNCTIONS = {
+    "things": {
+        "is_thing": "(thing)", "is_hole": "(thing)", "fits": "(thing, hole)", "meet": "(one, other)",
+        "join": "(one, other)",
+    },
+    "scales": {"is_scale": "(thing, many)", "worth": "(scale, thing)"},
+    "rules": {"is_rule": "(thing, many)", "keeps": "(rule, thing)"},
+    "arrows": {"arrow": "(lot, one, other)", "shared": "(lot)"},
+    "spreads": {
+        "spread": "(row, lot, name, *, out=True)", "first_wrong": "(row, lot)", "grades": "(row, lot)",
+    },
+    "counts": {"counted": "(row, least, greatest)"},
+    "grading": {"graded": "(lot)"},
+}
+CLASSES = {
+    ("rows", "Row"): {
+        "__init__": "(self, holes)", "holes": "(self)", "bins": "(self)", "place_of": "(self, thing)",
+        "bin_of": "(self, thing)", "__eq__": "(self, other)", "__len__": "(self)", "__str__": "(self)",
+    },
+    ("lots", "Lot"): {
+        "__init__": "(self, sorts)", "names": "(self)", "sorts": "(self)", "sort_of": "(self, name)",
+        "measures": "(self)", "has": "(self, name, thing)", "__eq__": "(self, other)", "__len__": "(self)",
+    },
+}
+README = pathlib.Path(__file__).resolve().parent.parent / "README.md"
+
+
+class Interface(unittest.TestCase):
+    def test_functions(self):
+        for module, names in FUNCTIONS.items():
+            for name, told in names.items():
+                found = getattr(importlib.import_module(f"gapgrades.{module}"), name)
+                self.assertEqual(str(inspect.signature(found)), told, name)
+
+    def test_methods_stand_in_the_class_itself(self):
+        for (module, name), methods in CLASSES.items():
+            found = getattr(importlib.import_module(f"gapgrades.{module}"), name)
+            for method, told in methods.items():
+                self.assertEqual(str(inspect.signature(vars(found)[method])), told, (name, method))
+
+    def test_examples_of_the_readme(self):
+        parts = README.read_text().split("```python\n")[1:]
+        self.assertTrue(parts)
+        for part in parts:
+            known = {}
+            for line in part.split("```")[0].splitlines():
+                code, _, told = line.partition("  # ")
+                self.assertIsNone(exec(code, known))
+                told = told.strip().split(": ")[0]
+                if told and " = " not in code:
+                    self.assertEqual(eval(code, known), eval(told, known), line)
