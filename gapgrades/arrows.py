@@ -4,17 +4,17 @@ from gapgrades.rules import keeps
 from gapgrades.things import meet
 
 
-def arrow_between(one, other):
-    """The greatest thing of the first sort that fits the other's greatest, or None."""
-    thing = meet(one[1], other[1])
-    return thing if keeps(one[2], thing) else None
+def greatest_within(sort, hole):
+    """The greatest thing of the sort that fits the hole, or None."""
+    thing = meet(sort[1], hole)
+    return thing if keeps(sort[2], thing) else None
 
 
 def arrow(lot, one, other):
     """The arrow from the sort of the first name to that of the other: a thing, or None."""
     first = lot.sort_of(one)
     second = lot.sort_of(other)
-    return arrow_between(first, second)
+    return greatest_within(first, second[1])
 
 
 def shared(lot):
@@ -22,7 +22,7 @@ def shared(lot):
     sorts = lot.sorts()
     for place, first in enumerate(sorts):
         for second in sorts[place + 1:]:
-            thing = arrow_between(first, second)
+            thing = greatest_within(first, second[1])
             if thing is not None and keeps(second[2], thing):
                 return first[0], second[0], thing
     return None

@@ -1,12 +1,17 @@
 """A row that grades a lot with one hole a sort, or a ring of sorts that bars all such rows."""
 
-from gapgrades.arrows import arrow_between
+from gapgrades.arrows import greatest_within
 from gapgrades.rows import Row
+
+
+def fit_table(sorts, holes):
+    """For each sort a list: its greatest thing that fits each hole, or None."""
+    return [[greatest_within(sort, hole) for hole in holes] for sort in sorts]
 
 
 def arrow_table(sorts):
     """For each sort a list: its arrow to each one, a thing or None."""
-    return [[arrow_between(one, other) for other in sorts] for one in sorts]
+    return fit_table(sorts, [sort[1] for sort in sorts])
 
 
 def elder_of(place, left, table):
@@ -25,10 +30,10 @@ def first_free(left, table):
     return None
 
 
-def lined_up(table):
+def lined_up(places, table):
     """Two lists of places: an order in which arrows lead on only, and those that it can't take."""
     order = []
-    left = list(range(len(table)))
+    left = list(places)
     place = first_free(left, table)
     while place is not None:
         order.append(place)
@@ -54,11 +59,17 @@ def links_of(names, ring, table):
     return [(names[one], table[one][other]) for one, other in zip(ring, ring[1:] + ring[:1])]
 
 
+def row_or_ring(sorts, holes):
+    """("row", row) of these holes, one a sort, or ("ring", links), each thing within the next hole."""
+    names = [sort[0] for sort in sorts]
+    table = fit_table(sorts, holes)
+    order, left = lined_up(list(range(len(sorts))), table)
+    if left:
+        return "ring", links_of(names, ring_of(left, table), table)
+    return "row", Row([(holes[place], names[place]) for place in order])
+
+
 def graded(lot):
     """("row", row) or ("ring", links)."""
     sorts = lot.sorts()
-    table = arrow_table(sorts)
-    order, left = lined_up(table)
-    if left:
-        return "ring", links_of(lot.names(), ring_of(left, table), table)
-    return "row", Row([(sorts[place][1], sorts[place][0]) for place in order])
+    return row_or_ring(sorts, [sort[1] for sort in sorts])

@@ -39,6 +39,11 @@ def join(one, other):
     return tuple([int(max(first, second)) for first, second in zip(one, other)])
 
 
+def widened(hole, room):
+    """The hole with so much added to each measure, perhaps beyond the bounds of holes."""
+    return tuple([measure + room for measure in hole])
+
+
 def written(thing):
     """The measures as texts have them, as in 3x4x5."""
     return "x".join([str(measure) for measure in thing])

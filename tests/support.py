@@ -6,6 +6,7 @@ import random
 from gapgrades.lots import Lot
 from gapgrades.rows import Row
 from gapgrades.rules import keeps
+from gapgrades.scales import worth
 from gapgrades.things import fits
 
 
@@ -110,3 +111,58 @@ def some_row(seed, many, holes, names="abc", most=5):
     """A row of so many holes and measures, the same for the same seed."""
     chance = random.Random(seed)
     return Row([(some_thing(chance, many, most), chance.choice(names)) for _ in range(holes)])
+
+
+def ring_sorts(many):
+    """As many sorts as measures, three or more, in one ring, of which no two share a thing.
+
+    Each sort needs 2 in its own measure; its greatest thing has 2 there and where the one ahead
+    needs it, 1 elsewhere: so the things of a sort fit the next one's greatest, and no other's.
+    """
+    return [
+        ("abcdefgh"[at], tuple(2 if place in (at, (at - 1) % many) else 1 for place in range(many)), ("size", at, 2))
+        for at in range(many)
+    ]
+
+
+def lot_on_scale(chance, scale, many):
+    """A lot of two to four sorts whose rules are worths on this scale."""
+    sorts = []
+    for name in "abcd"[: chance.randint(2, 4)]:
+        greatest = some_thing(chance, many, 9)
+        number = max(0, worth(scale, greatest) - chance.randint(0, 2))
+        sorts.append((name, greatest, ("worth", scale, number)))
+    return Lot(sorts)
+
+
+def lot_of_arrows(pairs, many):
+    """A lot of so many sorts, up to eight, a, b and so on, with just these arrows, tuples of two names.
+
+    Each sort needs 2 in its own measure: its things fit those greatest ones that have 2 there.
+    """
+    names = "abcdefgh"[:many]
+    return Lot([
+        (name, tuple(2 if one == name or (one, name) in pairs else 1 for one in names), ("size", at, 2))
+        for at, name in enumerate(names)
+    ])
+
+
+def some_arrows(chance, many, share):
+    """A lot of so many sorts with arrows by chance, about this share, in hundredths, of all there may be."""
+    pairs = [pair for pair in itertools.permutations("abcdefgh"[:many], 2) if chance.randint(1, 100) <= share]
+    return lot_of_arrows(pairs, many)
+
+
+def stretch(name, least, greatest):
+    """A sort of all things from the least to the greatest one."""
+    sizes = [("size", at, low) for at, low in enumerate(least)]
+    return name, tuple(greatest), ("all", ("all", *sizes[:4]), ("all", *sizes[4:]))
+
+
+def some_stretches(chance, many, sorts, most=4):
+    """Stretches by chance."""
+    told = []
+    for name in "abcdefghijkl"[:sorts]:
+        one, other = some_thing(chance, many, most), some_thing(chance, many, most)
+        told.append(stretch(name, [min(pair) for pair in zip(one, other)], [max(pair) for pair in zip(one, other)]))
+    return Lot(told)

@@ -8,41 +8,18 @@ from gapgrades.arrows import arrow, shared
 from gapgrades.grading import graded
 from gapgrades.lots import Lot
 from gapgrades.rows import Row
-from gapgrades.scales import worth
 from gapgrades.spreads import grades
 from gapgrades.things import fits
-from support import box, is_plain, some_lot, some_scale, some_thing
+from support import box, is_plain, lot_on_scale, ring_sorts, some_lot, some_scale
 
 G = 10 ** 9
 ALL = ("all",)
-
-
-def ring_sorts(many):
-    """As many sorts as measures, three or more, in one ring, of which no two share a thing.
-
-    Each sort needs 2 in its own measure; its greatest thing has 2 there and where the one ahead
-    needs it, 1 elsewhere: so the things of a sort fit the next one's greatest, and no other's.
-    """
-    return [
-        ("abcdefgh"[at], tuple(2 if place in (at, (at - 1) % many) else 1 for place in range(many)), ("size", at, 2))
-        for at in range(many)
-    ]
 
 
 def rows_of_greatest(lot):
     """Every row with one hole a sort, just its greatest thing."""
     for order in itertools.permutations(lot.sorts()):
         yield Row([(greatest, name) for name, greatest, _ in order])
-
-
-def lot_on_scale(chance, scale, many):
-    """A lot of two to four sorts whose rules are worths on this scale."""
-    sorts = []
-    for name in "abcd"[: chance.randint(2, 4)]:
-        greatest = some_thing(chance, many, 9)
-        number = max(0, worth(scale, greatest) - chance.randint(0, 2))
-        sorts.append((name, greatest, ("worth", scale, number)))
-    return Lot(sorts)
 
 
 class Graded(unittest.TestCase):

@@ -18,6 +18,12 @@ FUNCTIONS = {
     },
     "counts": {"counted": "(row, least, greatest)"},
     "grading": {"graded": "(lot)"},
+    "ringlooks": {"shows_ring": "(lot, thing)"},
+    "rising": {"scale_of": "(lot)", "rising": "(lot)"},
+    "orders": {"many_orders": "(lot)", "order_at": "(lot, number)", "number_of": "(lot, names)"},
+    "needs": {"needs": "(lot)"},
+    "needlooks": {"shows_needs": "(lot, names, rings)"},
+    "stretches": {"least_of": "(lot, name)"},
 }
 CLASSES = {
     ("rows", "Row"): {

@@ -38,6 +38,8 @@ PLAIN_AT_TOP = (
     ast.Name,
 )
 
+AT_ONCE = "list tuple dict sorted sum any all enumerate zip min max reversed".split()
+
 
 def nodes(kind):
     """All nodes of a kind, each with its file."""
@@ -166,6 +168,36 @@ class Shape(unittest.TestCase):
             for sign, part in zip(node.ops, node.comparators):
                 if isinstance(sign, (ast.Is, ast.IsNot)):
                     self.assertIn(ast.unparse(part), ("None", "True", "False"), name)
+
+
+class Iterated(unittest.TestCase):
+    def test_ranges_and_the_like_are_iterated_on_the_spot(self):
+        for path in FILES:
+            tree = ast.parse(path.read_text())
+            at_once = set()
+            for node in ast.walk(tree):
+                if isinstance(node, (ast.For, ast.comprehension)):
+                    at_once.add(id(node.iter))
+                if isinstance(node, ast.Call) and isinstance(node.func, ast.Name) and node.func.id in AT_ONCE:
+                    at_once.update(id(part) for part in node.args)
+            for node in ast.walk(tree):
+                if isinstance(node, ast.Call):
+                    named = isinstance(node.func, ast.Name) and node.func.id in ("range", "zip", "enumerate", "reversed")
+                    method = isinstance(node.func, ast.Attribute) and node.func.attr in ("items", "keys", "values")
+                    if named or method:
+                        self.assertIn(id(node), at_once, (path.name, node.lineno))
+
+    def test_sets_stand_in_sorted_and_len_alone(self):
+        for path in FILES:
+            tree = ast.parse(path.read_text())
+            held = set()
+            for node in ast.walk(tree):
+                if isinstance(node, ast.Call) and isinstance(node.func, ast.Name) and node.func.id in ("sorted", "len"):
+                    held.update(id(part) for part in node.args)
+            for node in ast.walk(tree):
+                made = isinstance(node, ast.Call) and isinstance(node.func, ast.Name) and node.func.id == "set"
+                if made or isinstance(node, (ast.Set, ast.SetComp)):
+                    self.assertIn(id(node), held, (path.name, node.lineno))
 
 
 class Names(unittest.TestCase):
