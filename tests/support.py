@@ -3,6 +3,7 @@
 import itertools
 import random
 
+from gapgrades.arrows import shared
 from gapgrades.lots import Lot
 from gapgrades.rows import Row
 from gapgrades.rules import keeps
@@ -166,3 +167,20 @@ def some_stretches(chance, many, sorts, most=4):
         one, other = some_thing(chance, many, most), some_thing(chance, many, most)
         told.append(stretch(name, [min(pair) for pair in zip(one, other)], [max(pair) for pair in zip(one, other)]))
     return Lot(told)
+
+
+def some_apart(chance, many):
+    """A lot of stretches, so many and up to four more, with arrows by chance, of which no two share a thing."""
+    pairs = [
+        chance.choice([pair, pair[::-1]]) for pair in itertools.combinations("abcdefgh"[:many], 2)
+        if chance.random() < 0.5
+    ]
+    sorts = lot_of_arrows(pairs, many).sorts()
+    for name in "wxyz"[: chance.randint(0, 4)]:
+        one, other = some_thing(chance, many, 3), some_thing(chance, many, 3)
+        sort = stretch(name, [min(pair) for pair in zip(one, other)], [max(pair) for pair in zip(one, other)])
+        if shared(Lot(sorts + [sort])) is None:
+            sorts.append(sort)
+    chance.shuffle(sorts)
+    return Lot(sorts)
+

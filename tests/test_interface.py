@@ -24,6 +24,12 @@ FUNCTIONS = {
     "needs": {"needs": "(lot)"},
     "needlooks": {"shows_needs": "(lot, names, rings)"},
     "stretches": {"least_of": "(lot, name)"},
+    "manyrows": {"many_row": "(lot)"},
+    "slacks": {"slack": "(row, lot)"},
+    "bestslack": {"best_slack": "(lot)", "shows_slack": "(lot, error, thing)"},
+    "wear": {"borne": "(lot)", "last_run": "(lot, *, rates)"},
+    "growth": {"row_lasts": "(row, lot, *, growth=1)"},
+    "hanging": {"hung": "(lot, holes)"},
 }
 CLASSES = {
     ("rows", "Row"): {
