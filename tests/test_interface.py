@@ -30,6 +30,10 @@ FUNCTIONS = {
     "wear": {"borne": "(lot)", "last_run": "(lot, *, rates)"},
     "growth": {"row_lasts": "(row, lot, *, growth=1)"},
     "hanging": {"hung": "(lot, holes)"},
+    "putting": {"put_in": "(lot, row, sort)"},
+    "seenlooks": {"shows_why": "(seen, thing, place, paper)"},
+    "alike": {"parting": "(row, other)", "spared": "(row)", "bared": "(row)"},
+    "play": {"play": "(row, lot, place, measure)"},
 }
 CLASSES = {
     ("rows", "Row"): {
@@ -39,6 +43,14 @@ CLASSES = {
     ("lots", "Lot"): {
         "__init__": "(self, sorts)", "names": "(self)", "sorts": "(self)", "sort_of": "(self, name)",
         "measures": "(self)", "has": "(self, name, thing)", "__eq__": "(self, other)", "__len__": "(self)",
+    },
+    ("seen", "Seen"): {
+        "__init__": "(self, holes, *, measures=1)", "saw": "(self, thing, place)", "falls": "(self)",
+        "places": "(self, thing)", "why": "(self, thing, place)", "__eq__": "(self, other)",
+    },
+    ("works", "Works"): {
+        "__init__": "(self, rows, first)", "goes": "(self, thing)", "wrong": "(self, lot)", "grades": "(self, lot)",
+        "__eq__": "(self, other)",
     },
 }
 README = pathlib.Path(__file__).resolve().parent.parent / "README.md"
