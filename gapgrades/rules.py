@@ -4,7 +4,7 @@ from gapgrades.names import is_whole_from
 from gapgrades.scales import is_scale, worth
 from gapgrades.things import GREATEST_OF_THINGS
 
-MOST_WITHIN = 4
+MOST_RULES_WITHIN = 4
 MOST_PARTS = 4
 # The subset of the language bars exponents above 64.
 GREATEST_WORTH = 10 ** 60 * 10 ** 15
@@ -37,7 +37,7 @@ def is_rule_within(thing, many, within):
 
 def is_rule(thing, many):
     """Whether it is a rule for so many measures."""
-    return is_rule_within(thing, many, MOST_WITHIN)
+    return is_rule_within(thing, many, MOST_RULES_WITHIN)
 
 
 def keeps(rule, thing):

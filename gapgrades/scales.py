@@ -2,7 +2,7 @@
 
 from gapgrades.names import is_whole_from
 
-MOST_WITHIN = 4
+MOST_SCALES_WITHIN = 4
 GREATEST_WEIGHT = 1000
 ALONE = ("times", "low", "high")
 OF_TWO = ("add", "lesser", "greater")
@@ -30,7 +30,7 @@ def is_scale_within(thing, many, within):
 
 def is_scale(thing, many):
     """Whether it is a scale for so many measures."""
-    return is_scale_within(thing, many, MOST_WITHIN)
+    return is_scale_within(thing, many, MOST_SCALES_WITHIN)
 
 
 def multiplied(thing):
