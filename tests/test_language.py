@@ -170,6 +170,42 @@ class Shape(unittest.TestCase):
                     self.assertIn(ast.unparse(part), ("None", "True", "False"), name)
 
 
+    def test_stars_in_calls_stand_before_names(self):
+        for name, node in nodes(ast.Call):
+            for part in node.args:
+                if isinstance(part, ast.Starred):
+                    self.assertIsInstance(part.value, ast.Name, (name, node.lineno))
+            self.assertTrue(all(part.arg is not None for part in node.keywords), (name, node.lineno))
+
+    def test_own_errors_alone_are_raised_and_caught(self):
+        own = [node.name for name, node in nodes(ast.ClassDef) if name == "errors.py"]
+        for name, node in nodes(ast.ExceptHandler):
+            told = node.type.elts if isinstance(node.type, ast.Tuple) else [node.type]
+            self.assertTrue(all(part.id in own for part in told), (name, node.lineno))
+        for name, node in nodes(ast.Raise):
+            self.assertIn(node.exc.func.id, own, (name, node.lineno))
+            self.assertTrue(node.cause is None or ast.unparse(node.cause) == "None", (name, node.lineno))
+
+    def test_tables_are_only_read(self):
+        for path in FILES:
+            tree = ast.parse(path.read_text())
+            tables = [
+                node.targets[0].id for node in tree.body
+                if isinstance(node, ast.Assign) and isinstance(node.value, (ast.List, ast.Dict))
+            ]
+            read = set()
+            for node in ast.walk(tree):
+                if isinstance(node, ast.Subscript) and isinstance(node.ctx, ast.Load):
+                    read.add(id(node.value))
+                if isinstance(node, ast.Compare):
+                    read.update(id(part) for part in node.comparators)
+                if isinstance(node, ast.Call):
+                    self.assertNotIsInstance(node.func, ast.Subscript, (path.name, node.lineno))
+            for node in ast.walk(tree):
+                if isinstance(node, ast.Name) and node.id in tables and isinstance(node.ctx, ast.Load):
+                    self.assertIn(id(node), read, (path.name, node.lineno))
+
+
 class Iterated(unittest.TestCase):
     def test_ranges_and_the_like_are_iterated_on_the_spot(self):
         for path in FILES:
