@@ -46,7 +46,8 @@ class Works:
         if many > MOST_WAYS:
             raise TooMany(many)
         self.first = copied(first)
-        self.rows = {copied(name): (row, copied(after)) for name, (row, after) in rows.items()}
+        # Rising by names, so that equal works tell the same, however the dict was ordered.
+        self.rows = {copied(name): (rows[name][0], copied(rows[name][1])) for name in sorted(list(rows))}
 
     def goes(self, thing):
         """("bin", bin, way), ("out", None, way) or ("round", name, way)."""

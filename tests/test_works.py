@@ -252,6 +252,16 @@ class Made(unittest.TestCase):
                 self.assertEqual(works.goes((thing,)), Works(ROWS, "hall").goes((thing,)))
 
 
+    def test_equal_works_tell_the_same(self):
+        rows = {"p": (Row([((3, 9), "x")]), "q"), "q": (Row([((9, 3), "y"), ((9, 9), "a")]), None)}
+        one, other = Works(rows, "p"), Works(dict(reversed(rows.items())), "p")
+        self.assertEqual(one, other)
+        # Both (3, 9) and (9, 3) fall wrong.
+        lot = Lot([("a", (9, 9), ("worth", ("sum", (1, 1)), 12))])
+        self.assertIn(one.wrong(lot), (("a", (3, 9)), ("a", (9, 3))))
+        self.assertEqual(one.wrong(lot), other.wrong(lot))
+
+
 class Refused(unittest.TestCase):
     def test_the_first_name(self):
         for thing in anything() + ["hal", "nut", "Hall", ["hall"], ("hall",), {"hall": 1}]:
